@@ -1,0 +1,1 @@
+"""Pourwright: great rows sorted in a small room."""
