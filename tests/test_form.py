@@ -126,6 +126,87 @@ class TestTrees(unittest.TestCase):
             if isinstance(node.ctx, ast.Store):
                 self.assertNotIn(node.attr, methods, where)
 
+    def test_is_stands_beside_none_true_and_false(self):
+        for where, node in nodes(ast.Compare):
+            for sign, other in zip(node.ops, node.comparators):
+                if isinstance(sign, (ast.Is, ast.IsNot)):
+                    self.assertIn(ast.unparse(other), ("None", "True", "False"), where)
+
+    def test_a_statement_by_itself_is_a_call(self):
+        for where, node in nodes((ast.FunctionDef, ast.ClassDef, ast.For, ast.While, ast.If)):
+            for part in node.body:
+                self.assertFalse(isinstance(part, ast.Expr) and not isinstance(part.value, ast.Call), where)
+
+    def test_exponents_are_written(self):
+        for where, node in nodes(ast.BinOp):
+            if isinstance(node.op, ast.Pow):
+                self.assertIsInstance(node.right, ast.Constant, where)
+                self.assertIn(node.right.value, range(65), where)
+
+    def test_keywords(self):
+        told = {"sorted": ("key", "reverse"), "min": ("key", "default"), "max": ("key", "default"), "sum": ("start",),
+                "enumerate": ("start",), "zip": ("strict",)}
+        for where, node in nodes(ast.Call):
+            if isinstance(node.func, ast.Name) and node.func.id in vars(builtins):
+                for keyword in node.keywords:
+                    self.assertIn(keyword.arg, told.get(node.func.id, ()), where)
+
+    def test_sets_stand_where_they_are_asked(self):
+        for where, node in nodes(ast.Set):
+            self.fail(where)
+        for file in files():
+            text = file.read_text(encoding="utf-8")
+            self.assertEqual(len(re.findall(r"\bset\(", text)), len(re.findall(r"\b(?:len|sorted)\(set\(", text)))
+
+
+class TestNames(unittest.TestCase):
+    def imported(self, tree):
+        return [(node.module, alias.name) for node in tree.body if isinstance(node, ast.ImportFrom)
+                for alias in node.names if alias.asname is None]
+
+    def defined(self, tree):
+        told = [node.name for node in tree.body if isinstance(node, (ast.FunctionDef, ast.ClassDef))]
+        return told + [node.targets[0].id for node in tree.body if isinstance(node, ast.Assign)]
+
+    def trees(self):
+        return {f"pourwright.{file.stem}": ast.parse(file.read_text(encoding="utf-8")) for file in files()}
+
+    def test_each_name_is_drawn_from_the_file_that_defines_it(self):
+        trees = self.trees()
+        for file, tree in trees.items():
+            for module, name in self.imported(tree):
+                self.assertIn(name, self.defined(trees[module]), file)
+
+    def test_no_two_files_draw_from_one_another(self):
+        left = {file: {module for module, name in self.imported(tree)} for file, tree in self.trees().items()}
+        while left:
+            free = [file for file, drawn in left.items() if not drawn & set(left)]
+            self.assertTrue(free, left)
+            left = {file: drawn for file, drawn in left.items() if file not in free}
+
+    def test_each_name_is_bound_once_at_the_top(self):
+        for file, tree in self.trees().items():
+            told = self.defined(tree) + [name for module, name in self.imported(tree)]
+            self.assertEqual(len(told), len(set(told)), file)
+
+    def test_no_local_is_called_like_a_class_or_an_import(self):
+        for file, tree in self.trees().items():
+            taken = {name for module, name in self.imported(tree)}
+            taken |= {node.name for node in tree.body if isinstance(node, ast.ClassDef)}
+            locals_of = [part for node in tree.body if isinstance(node, (ast.FunctionDef, ast.ClassDef))
+                         for part in ast.walk(node)]
+            for part in locals_of:
+                if isinstance(part, ast.Name) and isinstance(part.ctx, ast.Store):
+                    self.assertNotIn(part.id, taken, file)
+                if isinstance(part, ast.arg):
+                    self.assertNotIn(part.arg, taken, file)
+
+    def test_all_that_is_drawn_is_used(self):
+        for file, tree in self.trees().items():
+            used = {node.id for node in ast.walk(tree) if isinstance(node, ast.Name)}
+            for module, name in self.imported(tree):
+                self.assertIn(name, used, file)
+
 
 if __name__ == "__main__":
     unittest.main()
