@@ -1,9 +1,11 @@
 """The bounds that several modules ask for, and what is refused beyond them."""
 
-from pourwright.errors import NoRoom
+from pourwright.errors import NoRoom, NoWidth
 from pourwright.items import is_whole
 
 MOST_ROOM = 50
+LEAST_WIDTH = 2
+MOST_WIDTH = 8
 
 
 def is_below(thing, many):
@@ -14,3 +16,8 @@ def is_below(thing, many):
 def check_room(thing):
     if not is_whole(thing) or not 1 <= thing <= MOST_ROOM:
         raise NoRoom(f"a room is a whole number from 1 to {MOST_ROOM}")
+
+
+def check_width(thing):
+    if not is_whole(thing) or not LEAST_WIDTH <= thing <= MOST_WIDTH:
+        raise NoWidth(f"a width is a whole number from {LEAST_WIDTH} to {MOST_WIDTH}")
