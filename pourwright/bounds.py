@@ -1,11 +1,13 @@
 """The bounds that several modules ask for, and what is refused beyond them."""
 
-from pourwright.errors import NoRoom, NoWidth
+from pourwright.errors import NoDrives, NoRoom, NoWidth
 from pourwright.items import is_whole
 
 MOST_ROOM = 50
 LEAST_WIDTH = 2
 MOST_WIDTH = 8
+LEAST_DRIVES = 3
+MOST_DRIVES = 6
 
 
 def is_below(thing, many):
@@ -21,3 +23,8 @@ def check_room(thing):
 def check_width(thing):
     if not is_whole(thing) or not LEAST_WIDTH <= thing <= MOST_WIDTH:
         raise NoWidth(f"a width is a whole number from {LEAST_WIDTH} to {MOST_WIDTH}")
+
+
+def check_drives(thing):
+    if not is_whole(thing) or not LEAST_DRIVES <= thing <= MOST_DRIVES:
+        raise NoDrives(f"a number of drives is a whole number from {LEAST_DRIVES} to {MOST_DRIVES}")

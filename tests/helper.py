@@ -28,6 +28,7 @@ NO_NUMBERS = [
 GREAT_NUMBERS = [51, 52, 100, 201, FORTY, -1, -2, -3, -50, -FORTY]
 NO_ROOMS = [0] + GREAT_NUMBERS + NO_NUMBERS
 NO_WIDTHS = [1, 9, 0, 10] + GREAT_NUMBERS + NO_NUMBERS
+NO_DRIVES = [2, 7, 0, 1, 8, 10] + GREAT_NUMBERS + NO_NUMBERS
 
 ROWS = {
     "none": [],
@@ -53,6 +54,26 @@ def small_rows(most, kinds=((0, ""), (0, "a"), (1, ""))):
     for many in range(most + 1):
         for row in itertools.product(kinds, repeat=many):
             yield list(row)
+
+
+def layouts_of(drives, most, least=0):
+    """Every layout of so many drives with so many runs."""
+    for layout in itertools.product(range(most + 1), repeat=drives):
+        if least <= sum(layout) <= most:
+            yield layout
+
+
+def phases_by_hand(layout):
+    """[71], word by word: every phase of a layout, with the layout to which it leads."""
+    drives = range(len(layout))
+    for target in drives:
+        for many in range(2, len(layout)):
+            for sources in itertools.combinations([drive for drive in drives if drive != target], many):
+                least = min(layout[drive] for drive in sources)
+                for times in range(1, least + 1 if layout[target] == 0 else 1):
+                    told = [runs - times * (drive in sources) + times * (drive == target)
+                            for drive, runs in enumerate(layout)]
+                    yield (target, sources, times), tuple(told)
 
 
 def by_hand_rises(row):
