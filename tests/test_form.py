@@ -151,6 +151,34 @@ class TestTrees(unittest.TestCase):
                 for keyword in node.keywords:
                     self.assertIn(keyword.arg, told.get(node.func.id, ()), where)
 
+    def test_what_is_walked_is_walked_at_once(self):
+        walked = {"zip", "enumerate", "reversed", "range"}
+        takers = {"list", "tuple", "dict", "sorted", "sum", "any", "all", "enumerate", "zip"}
+        for where, node in nodes(ast.AST):
+            for part in ast.iter_child_nodes(node):
+                if not isinstance(part, ast.Call):
+                    continue
+                own = isinstance(part.func, ast.Name) and part.func.id in walked
+                if own or isinstance(part.func, ast.Attribute) and part.func.attr in ("items", "keys", "values"):
+                    taker = node.func.id if isinstance(node, ast.Call) and isinstance(node.func, ast.Name) else ""
+                    self.assertTrue(
+                        isinstance(node, (ast.For, ast.comprehension)) and node.iter is part
+                        or taker in takers and node.args[0] is part
+                        or taker in ("min", "max") and len(node.args) + len(node.keywords) == 1,
+                        f"{where}: {ast.unparse(part)}",
+                    )
+
+    def test_what_stands_at_the_top_is_only_read(self):
+        for file in files():
+            tree = ast.parse(file.read_text(encoding="utf-8"))
+            kept = [node.targets[0].id for node in tree.body
+                    if isinstance(node, ast.Assign) and isinstance(node.value, (ast.List, ast.Dict))]
+            for node in ast.walk(tree):
+                for part in ast.iter_child_nodes(node):
+                    if isinstance(part, ast.Name) and part.id in kept and isinstance(part.ctx, ast.Load):
+                        read = isinstance(node, ast.Subscript) and isinstance(node.ctx, ast.Load)
+                        self.assertTrue(read or isinstance(node, (ast.Compare, ast.For)), f"{file.name}:{part.lineno}")
+
     def test_sets_stand_where_they_are_asked(self):
         for where, node in nodes(ast.Set):
             self.fail(where)
